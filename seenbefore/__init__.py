@@ -1,0 +1,1 @@
+"""Seenbefore: watchers of streams whose values are only compared with held ones."""

@@ -44,16 +44,15 @@ class Watcher:
 
     def set_verdict(self, state, verdict):
         """Give a state another verdict."""
-        self._require_state(state)
+        self.require_state(state)
         require_verdict(verdict)
         self._verdicts[state] = verdict
 
     def add_rule(self, state, word, test, target, sources):
         """Add the rule (state, word, test) -> (target, sources)."""
-        self._require_state(state)
-        self._require_state(target)
-        if not is_between(word, 0, self.words - 1):
-            raise NotAWord(word)
+        self.require_state(state)
+        self.require_state(target)
+        self.require_word(word)
         if not is_test(test, self._held[state]):
             raise InvalidTest(test)
         if not are_sources(sources, self._held[target], self._held[state], test):
@@ -90,9 +89,22 @@ class Watcher:
         other._rules = {rule: self._rules[rule] for rule in self._rules}
         return other
 
-    def _require_state(self, state):
+    def rule_for(self, state, word, test):
+        """Return the (target, sources) of the rule for this state, word and test, or None without one.
+
+        The parts are of the kinds that rules have.
+        """
+        return self._rules.get((state, word, test))
+
+    def require_state(self, state):
+        """Raise UnknownState if any value is not a state of this watcher."""
         if not is_between(state, 0, len(self._verdicts) - 1):
             raise UnknownState(state)
+
+    def require_word(self, word):
+        """Raise NotAWord if any value is not a word of this watcher."""
+        if not is_between(word, 0, self.words - 1):
+            raise NotAWord(word)
 
 
 def require_verdict(verdict):

@@ -1,4 +1,5 @@
 """Values and watchers that several tests share."""
+import random
 
 from seenbefore.watchers import Watcher
 
@@ -51,3 +52,89 @@ def kinds(value):
     if isinstance(value, dict):
         return ("dict", [(kinds(key), kinds(value[key])) for key in value])
     return (type(value).__name__, value)
+
+
+MOST = 10 ** 60 - 1
+
+
+def built(words, states, rules):
+    """A watcher with these states (verdict, held) after state 0, and these rules with their targets and sources."""
+    watcher = Watcher(words)
+    for verdict, held in states:
+        watcher.add_state(verdict, held)
+    for rule in rules:
+        watcher.add_rule(*rule)
+    return watcher
+
+
+def turning():
+    """Holds two values; word 0 turns them or takes a new one in, word 1 tells which of them came, word 2 does nothing.
+
+    State 1 holds the first value, state 2 two of them, states 3 and 4 tell. In state 2 there is no rule
+    for word 0 with place 1, for word 1 with "new", and for word 2.
+    """
+    return built(3, [(0, 1), (1, 2), (2, 0), (3, 1)], [
+        (0, 0, "new", 1, ("value",)),
+        (1, 0, "new", 2, ("value", 0)),
+        (2, 0, 0, 2, (1, 0)),
+        (2, 0, "new", 2, ("value", 0)),
+        (2, 1, 0, 3, ()),
+        (2, 1, 1, 4, (0,)),
+        (4, 1, "new", 1, ("value",)),
+    ])
+
+
+def any_watcher(chooser, words, states):
+    """A watcher by chance, with about four of five rules that it could have."""
+    watcher = Watcher(words)
+    for _ in range(states - 1):
+        watcher.add_state(chooser.randrange(4), chooser.randrange(4))
+    held = watcher.held_counts()
+    for state in range(states):
+        for word in range(words):
+            for test in [*range(held[state]), "new"]:
+                items = [*range(held[state]), "value"][:held[state] + (test == "new")]
+                target = chooser.choice([target for target in range(states) if held[target] <= len(items)])
+                if chooser.random() < 0.8:
+                    watcher.add_rule(state, word, test, target, tuple(chooser.sample(items, held[target])))
+    return watcher
+
+
+def some_watchers(seed, many, words=None):
+    """Watchers by chance, the same for the same seed."""
+    chooser = random.Random(seed)
+    return [any_watcher(chooser, words or chooser.randint(1, 3), chooser.randint(1, 6)) for _ in range(many)]
+
+
+def some_stream(chooser, words, values, length):
+    """A stream by chance."""
+    return tuple((chooser.randrange(words), chooser.choice(values)) for _ in range(length))
+
+
+def told_run(watcher, stream):
+    """What the document tells of a run, in its own words: the state, and a dict from its places to their values."""
+    rules = watcher.rules()
+    state, held = 0, {}
+    for word, value in stream:
+        test = "new"
+        for place in held:
+            if held[place] == value:
+                test = place
+        if (state, word, test) in rules:
+            target, sources = rules[(state, word, test)]
+            before = dict(held)
+            before["value"] = value
+            held = {}
+            for place in range(len(sources)):
+                held[place] = before[sources[place]]
+            state = target
+    return state, held
+
+
+def numbered_streams(words, longest):
+    """All numbered streams up to this length, shorter ones first."""
+    level = [((), 0)]
+    for _ in range(longest + 1):
+        yield from (stream for stream, _ in level)
+        level = [(stream + ((word, value),), max(used, value + 1))
+                 for stream, used in level for word in range(words) for value in range(used + 1)]

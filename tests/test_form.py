@@ -16,6 +16,21 @@ FUNCTIONS = {
         "are_alike": ["one", "two"],
         "exchanged": ["stream", "one", "two"],
     },
+    "runs": {
+        "run": ["watcher", "stream"],
+        "verdict_of": ["watcher", "stream"],
+    },
+    "reached": {
+        "reached_states": ["watcher"],
+        "shortest_stream": ["watcher", "state"],
+    },
+    "situations": {
+        "cases": ["pair", "situation"],
+        "step": ["pair", "situation", "word", "case"],
+        "reached_situations": ["pair", "situation"],
+        "situation_behind": ["pair", "stream"],
+        "verdicts_from": ["pair", "situation", "stream"],
+    },
 }
 METHODS = {
     ("watchers", "Watcher"): {
@@ -29,6 +44,14 @@ METHODS = {
         "held_counts": ["self"],
         "rules": ["self"],
         "twin": ["self"],
+    },
+    ("runs", "Follower"): {
+        "__init__": ["self", "watcher"],
+        "read": ["self", "word", "value"],
+        "current_state": ["self"],
+        "current_verdict": ["self"],
+        "held_values": ["self"],
+        "rewind": ["self", "many"],
     },
 }
 

@@ -6,12 +6,19 @@ from seenbefore.integers import is_between
 
 def require_stream(value, words):
     """Return the value if it is a stream for so many words, else raise NotAStream."""
-    if not isinstance(value, tuple):
+    if not is_stream(value, words):
         raise NotAStream(value)
+    return value
+
+
+def is_stream(value, words):
+    """Return whether any value is a stream for so many words."""
+    if not isinstance(value, tuple):
+        return False
     for message in value:
         if not is_message(message, words):
-            raise NotAStream(value)
-    return value
+            return False
+    return True
 
 
 def is_message(message, words):

@@ -111,26 +111,6 @@ def some_stream(chooser, words, values, length):
     return tuple((chooser.randrange(words), chooser.choice(values)) for _ in range(length))
 
 
-def told_run(watcher, stream):
-    """What the document tells of a run, in its own words: the state, and a dict from its places to their values."""
-    rules = watcher.rules()
-    state, held = 0, {}
-    for word, value in stream:
-        test = "new"
-        for place in held:
-            if held[place] == value:
-                test = place
-        if (state, word, test) in rules:
-            target, sources = rules[(state, word, test)]
-            before = dict(held)
-            before["value"] = value
-            held = {}
-            for place in range(len(sources)):
-                held[place] = before[sources[place]]
-            state = target
-    return state, held
-
-
 def numbered_streams(words, longest):
     """All numbered streams up to this length, shorter ones first."""
     level = [((), 0)]
@@ -138,3 +118,98 @@ def numbered_streams(words, longest):
         yield from (stream for stream, _ in level)
         level = [(stream + ((word, value),), max(used, value + 1))
                  for stream, used in level for word in range(words) for value in range(used + 1)]
+
+
+def some_pairs(seed, many, states=6):
+    """Pairs of watchers by chance with equally many words; some of a watcher with itself."""
+    chooser = random.Random(seed)
+    pairs = []
+    for number in range(many):
+        words = chooser.randint(1, 3)
+        one, two = [any_watcher(chooser, words, chooser.randint(1, states)) for _ in range(2)]
+        pairs.append((one, one) if number % 5 == 0 else (one, two))
+    return pairs
+
+
+def disguised(chooser, watcher):
+    """Another watcher by chance that gives all streams the same verdicts.
+
+    Its states stand for states of the first one: with the places in another order, some with a place more that
+    nobody needs, some twice, and in another order.
+    """
+    held = watcher.held_counts()
+    parts = [(state, shuffled(chooser, range(held[state]))) for state in range(1, len(watcher))]
+    while len(parts) < 5 and chooser.random() < 0.7:
+        state = chooser.randrange(len(watcher))
+        parts.append((state, shuffled(chooser, range(held[state]))))
+    parts = [(state, shuffled(chooser, [*order, "more"]) if len(order) < 3 and chooser.random() < 0.3 else order)
+             for state, order in parts]
+    parts = [(0, [])] + shuffled(chooser, parts)
+    other = Watcher(watcher.words)
+    other.set_verdict(0, watcher.verdicts()[0])
+    for state, order in parts[1:]:
+        other.add_state(watcher.verdicts()[state], len(order))
+    for number, (state, order) in enumerate(parts):
+        for word in range(watcher.words):
+            for test in [*range(len(order)), "new"]:
+                add_disguised_rule(chooser, watcher, other, parts, number, word, test)
+    return other
+
+
+def add_disguised_rule(chooser, watcher, other, parts, number, word, test):
+    state, order = parts[number]
+    there = "new" if test == "new" or order[test] == "more" else order[test]
+    if (state, word, there) not in watcher.rules():
+        return
+    target, sources = watcher.rules()[(state, word, there)]
+    carriers = [test if source == "value" and test != "new" else source if source == "value" else order.index(source)
+                for source in sources]
+    free = [source for source in [*range(len(order)), *["value"] * (test == "new")] if source not in carriers]
+    fitting = [at for at, (left, places) in enumerate(parts) if left == target and ("more" not in places or free)]
+    if not fitting:
+        # Nothing could be carried to the place more, so the watcher has one state less than it needs.
+        raise Misfit()
+    at = chooser.choice(fitting)
+    other.add_rule(number, word, test, at, tuple(
+        chooser.choice(free) if place == "more" else carriers[place] for place in parts[at][1]))
+
+
+class Misfit(Exception):
+    """A watcher could not be disguised in the way that was drawn."""
+
+
+def shuffled(chooser, items):
+    return chooser.sample(list(items), len(items))
+
+
+def alike_pairs(seed, many, states=4):
+    """Pairs of watchers by chance that give all streams the same verdicts."""
+    chooser = random.Random(seed)
+    pairs = []
+    while len(pairs) < many:
+        one = any_watcher(chooser, chooser.randint(1, 3), chooser.randint(1, states))
+        try:
+            pairs.append((one, disguised(chooser, one)))
+        except Misfit:
+            continue
+    return pairs
+
+
+def changed(chooser, value):
+    """The value with one part of it, at any depth, changed by chance."""
+    if isinstance(value, tuple) and value and chooser.random() < 0.75:
+        at = chooser.randrange(len(value))
+        rows = [
+            value[:at] + (changed(chooser, value[at]),) + value[at + 1:],
+            value[:at] + (changed(chooser, value[at]),) + value[at + 1:],
+            value[:at] + value[at + 1:],
+            value[:at] + (value[at],) + value[at:],
+            value[:at] + (chooser.choice(STRANGE + (0, 1, 2)),) + value[at:],
+            value[:at] + value[at:at + 2][::-1] + value[at + 2:],
+            list(value),
+        ]
+        return chooser.choice(rows)
+    choices = [*STRANGE, 0, 1, 2, 3, 4, "A", "B", "alike", "unneeded", "swap", "unreached", "together"]
+    if isinstance(value, int):
+        choices += [value + 1, value - 1, value == 1, str(value)] * 4
+    return chooser.choice(choices)

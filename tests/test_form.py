@@ -31,6 +31,17 @@ FUNCTIONS = {
         "situation_behind": ["pair", "stream"],
         "verdicts_from": ["pair", "situation", "stream"],
     },
+    "claims": {
+        "require_claim": ["pair", "claim"],
+        "decide": ["pair", "claim"],
+    },
+    "checker": {
+        "first_fault": ["pair", "certificate"],
+    },
+    "joined": {
+        "turned_table": ["table"],
+        "joined_table": ["watchers", "one", "two"],
+    },
 }
 METHODS = {
     ("watchers", "Watcher"): {
@@ -108,7 +119,12 @@ class FilesTest(unittest.TestCase):
             for node in ast.walk(tree):
                 self.assertNotIsInstance(node, ast.Import, name)
                 if isinstance(node, ast.ImportFrom):
-                    self.assertEqual((node.level, node.module.split(".")[0]), (0, "seenbefore"))
+                    self.assertEqual(node.level, 0)
+                    names = {(part.name, part.asname) for part in node.names}
+                    if node.module == "itertools":
+                        self.assertLessEqual(names, {("combinations", None), ("permutations", None)})
+                    else:
+                        self.assertEqual(node.module.split(".")[0], "seenbefore")
 
 
 if __name__ == "__main__":

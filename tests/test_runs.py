@@ -2,12 +2,11 @@ import random
 import unittest
 from itertools import product
 
-from samples import (
-    MOST, built, kinds, look, numbered_streams, once, some_stream, some_watchers, told_run, turning, wide,
-)
+from samples import MOST, built, kinds, look, numbered_streams, once, some_stream, some_watchers, turning, wide
 from seenbefore.runs import run, verdict_of
 from seenbefore.streams import are_alike, numbered
 from seenbefore.watchers import Watcher
+from told import told_run
 
 
 class RunCase(unittest.TestCase):

@@ -1,94 +1,12 @@
 import copy
 import random
 import unittest
-from itertools import combinations, permutations, product
 
-from samples import MOST, any_watcher, built, kinds, look, numbered_streams, once, some_stream, turning, wide
+from samples import MOST, built, kinds, look, numbered_streams, once, some_pairs, some_stream, turning, wide
 from seenbefore.runs import run, verdict_of
 from seenbefore.situations import cases, reached_situations, situation_behind, step, verdicts_from
 from seenbefore.watchers import Watcher
-
-START = (0, 0, ())
-
-
-def some_pairs(seed, many, states=6):
-    """Pairs of watchers by chance with equally many words; some of a watcher with itself."""
-    chooser = random.Random(seed)
-    pairs = []
-    for number in range(many):
-        words = chooser.randint(1, 3)
-        one, two = [any_watcher(chooser, words, chooser.randint(1, states)) for _ in range(2)]
-        pairs.append((one, one) if number % 5 == 0 else (one, two))
-    return pairs
-
-
-def all_pairings(p_held, q_held):
-    """All ways to pair some of so many places with some of so many others."""
-    for many in range(min(p_held, q_held) + 1):
-        for left in combinations(range(p_held), many):
-            for right in permutations(range(q_held), many):
-                yield tuple(zip(left, right))
-
-
-def all_situations(pair):
-    """All situations of two watchers, reached or not."""
-    one, two = pair
-    for p, q in product(range(len(one)), range(len(two))):
-        for pairs in all_pairings(one.held_counts()[p], two.held_counts()[q]):
-            yield (p, q, pairs)
-
-
-def told_cases(pair, situation):
-    p, q, pairs = situation
-    told = [("both", i, j) for i, j in pairs]
-    told += [("first", i) for i in range(pair[0].held_counts()[p]) if i not in [left for left, _ in pairs]]
-    told += [("second", j) for j in range(pair[1].held_counts()[q]) if j not in [right for _, right in pairs]]
-    return tuple(told + [("new",)])
-
-
-TESTS = {
-    "both": lambda i, j: (i, j),
-    "first": lambda i: (i, "new"),
-    "second": lambda j: ("new", j),
-    "new": lambda: ("new", "new"),
-}
-
-
-def told_step(pair, situation, word, case):
-    """What the document tells of a step, in its own words."""
-    p, q, pairs = situation
-    states, carriers = [], []
-    for watcher, state, test in zip(pair, (p, q), TESTS[case[0]](*case[1:])):
-        stay = (state, tuple(range(watcher.held_counts()[state])))
-        target, sources = watcher.rules().get((state, word, test), stay)
-        states.append(target)
-        carriers.append(["message" if source in ("value", test) else source for source in sources])
-    found = []
-    for (i, one), (j, two) in product(enumerate(carriers[0]), enumerate(carriers[1])):
-        by_message = one == "message" and two == "message"
-        if by_message or ("message" not in (one, two) and (one, two) in pairs):
-            found.append((i, j))
-    return (states[0], states[1], tuple(sorted(found)))
-
-
-def told_situation(pair, stream):
-    """The situation behind a stream, from the held values of two runs."""
-    (p, first), (q, second) = [run(watcher, stream) for watcher in pair]
-    found = [(i, j) for i, j in product(range(len(first)), range(len(second))) if first[i] == second[j]]
-    return (p, q, tuple(found))
-
-
-def told_closure(pair, situation):
-    found, waiting = {situation}, [situation]
-    while waiting:
-        here = waiting.pop()
-        for word in range(pair[0].words):
-            for case in told_cases(pair, here):
-                there = told_step(pair, here, word, case)
-                if there not in found:
-                    found.add(there)
-                    waiting.append(there)
-    return tuple(sorted(found))
+from told import START, all_situations, told_cases, told_closure, told_situation, told_step
 
 
 def value_of(pair, stream, case):

@@ -148,6 +148,11 @@ def ways_to_sought(watchers, situations, claim):
     return ways_to(steps, [here for here in steps if are_sought(claim, verdicts_at(watchers, here))])
 
 
+def ways_to_unlike(watcher, situations):
+    """Return the ways, from these situations of a watcher with itself and all behind them, to unlike verdicts."""
+    return ways_to_sought((watcher, watcher), situations, (ALIKE,))
+
+
 def decide_never(pair, claim):
     """Decide a claim never."""
     _, side, verdict = claim
@@ -170,7 +175,7 @@ def decide_least(pair, claim):
     places = all_places(watcher)
     needs = [other_value(watcher, p, i) for p, i in places]
     parts = all_pairings(watcher)
-    ways = ways_to_sought(twice, needs + parts, claim)
+    ways = ways_to_unlike(watcher, needs + parts)
     for place, need in zip(places, needs):
         if need not in ways:
             return (BROKEN, claim, (UNNEEDED, *place, reached_situations(twice, need)))
@@ -190,7 +195,13 @@ def all_places(watcher):
 
 def all_pairings(watcher):
     """Return the list of all situations (p, q, pairs), p < q, whose pairs pair all places of both, in order."""
-    counts = watcher.held_counts()
-    return [(p, q, tuple(enumerate(partners)))
-            for p in range(len(counts)) for q in range(p + 1, len(counts)) if counts[p] == counts[q]
-            for partners in permutations(range(counts[p]))]
+    states = range(len(watcher))
+    return [pairing for p in states for q in states if p < q for pairing in pairings(watcher, p, q)]
+
+
+def pairings(watcher, p, q):
+    """Return the list of all situations (p, q, pairs) whose pairs pair all places of both states, in order."""
+    held = watcher.held_counts()[p]
+    if held != watcher.held_counts()[q]:
+        return []
+    return [(p, q, tuple(enumerate(partners))) for partners in permutations(range(held))]

@@ -149,6 +149,11 @@ def may_be_rule(rule):
 
 
 def rule_order(rule):
-    """Return what rules are sorted by: places cannot be compared with "new", which comes after them."""
+    """Return what rules are sorted by."""
     state, word, test = rule
-    return (state, word, MOST_HELD if test == NEW else test)
+    return (state, word, part_order(test))
+
+
+def part_order(part):
+    """Return what tests and sources are sorted by: places cannot be compared with "new" and "value" behind them."""
+    return MOST_HELD if part in (NEW, VALUE) else part

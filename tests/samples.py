@@ -213,3 +213,62 @@ def changed(chooser, value):
     if isinstance(value, int):
         choices += [value + 1, value - 1, value == 1, str(value)] * 4
     return chooser.choice(choices)
+
+
+def even_watcher(chooser, words, states):
+    """A watcher by chance whose rules treat all places of a state alike, but for the order in which they are kept."""
+    watcher = Watcher(words)
+    for number in range(states - 1):
+        # State by state there is one place more, so that all can be reached.
+        watcher.add_state(chooser.randrange(3), number % 3 + 1 if number < 3 else chooser.randrange(4))
+    for state, held in enumerate(watcher.held_counts()):
+        for word in range(words):
+            for test in ("place", "new"):
+                if chooser.random() < 0.8 and (held or test == "new"):
+                    add_even_rules(chooser, watcher, state, word, test)
+    return watcher
+
+
+KEPT = {
+    "nothing": lambda held, test: [],
+    "all": lambda held, test: [*range(held)],
+    "all and the value": lambda held, test: [*range(held), "value"],
+    "the value": lambda held, test: ["value"],
+    "the others": lambda held, test: [at for at in range(held) if at != test],
+    "the place": lambda held, test: [test],
+}
+
+
+def add_even_rules(chooser, watcher, state, word, test):
+    """The same rule for all places, or one for new values, to a target with so many places as are kept."""
+    held = watcher.held_counts()[state]
+    tests = [*range(held)] if test == "place" else ["new"]
+    ways = ["nothing", "all"] + (["the others", "the place"] if test == "place" else ["all and the value", "the value"])
+    kept = KEPT[chooser.choice([way for way in ways if len(KEPT[way](held, tests[0])) in watcher.held_counts()])]
+    target = chooser.choice([target for target, count in enumerate(watcher.held_counts())
+                             if count == len(kept(held, tests[0]))])
+    for one in tests:
+        watcher.add_rule(state, word, one, target, tuple(shuffled(chooser, kept(held, one))))
+
+
+def even_pairs(seed, many):
+    """Pairs of watchers by chance that give all streams the same verdicts, often with states that have symmetries."""
+    chooser = random.Random(seed)
+    pairs = []
+    while len(pairs) < many:
+        one = even_watcher(chooser, chooser.randint(2, 3), chooser.randint(3, 6))
+        try:
+            pairs.append((one, disguised(chooser, one)))
+        except Misfit:
+            continue
+    return pairs
+
+
+def ring(many):
+    """State `many` holds so many values in a ring: word 1 tells the place behind the one that came before it."""
+    rules = [(0, 0, "new", 1, ("value",)), (1, 0, "new", 2, (0, "value")), (2, 0, "new", 3, (0, 1, "value"))][:many]
+    watcher = built(2, [(0, held) for held in range(1, many + 1)] + [(0, 1), (1, 0)], rules)
+    for place in range(many):
+        watcher.add_rule(many, 1, place, many + 1, ((place + 1) % many,))
+    watcher.add_rule(many + 1, 1, 0, many + 2, ())
+    return watcher

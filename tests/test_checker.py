@@ -538,7 +538,9 @@ class LeastFaultsTest(FaultCase):
             with self.subTest(p=p, q=q, pairs=pairs, content=content):
                 self.assert_fault(pair, ("broken", ("least", "A"), ("alike", p, q, pairs, content)), fault)
         for part in (("alike",), ("alike", 2, 3, crossed), ("alike", 2, 3, crossed, table, ()), ("alike", table),
-                     ("alike", (2, 3, crossed), table), ["alike", 2, 3, crossed, table]):
+                     ("alike", (2, 3, crossed), table), ["alike", 2, 3, crossed, table], ("swap", 2, 3, crossed, table),
+                     ("unneeded", 2, 3, crossed, table), ("unreached", 2, 3, crossed, table),
+                     (None, 2, 3, crossed, table)):
             self.assert_fault(pair, ("broken", ("least", "A"), part), FORM)
 
     def test_the_side_that_is_named(self):

@@ -42,6 +42,20 @@ FUNCTIONS = {
         "turned_table": ["table"],
         "joined_table": ["watchers", "one", "two"],
     },
+    "needed": {
+        "needed_places": ["watcher"],
+        "dropped": ["watcher"],
+    },
+    "least": {
+        "symmetries": ["watcher", "state"],
+        "least": ["watcher"],
+    },
+    "texts": {
+        "format_watcher": ["watcher"],
+        "format_stream": ["stream"],
+        "parse_watcher": ["text"],
+        "parse_stream": ["text", "words"],
+    },
 }
 METHODS = {
     ("watchers", "Watcher"): {
@@ -63,6 +77,20 @@ METHODS = {
         "current_verdict": ["self"],
         "held_values": ["self"],
         "rewind": ["self", "many"],
+    },
+    ("sessions", "Session"): {
+        "__init__": ["self", "pair"],
+        "pair": ["self"],
+        "add_state": ["self", "side", "verdict", "held"],
+        "set_verdict": ["self", "side", "state", "verdict"],
+        "add_rule": ["self", "side", "state", "word", "test", "target", "sources"],
+        "remove_rule": ["self", "side", "state", "word", "test"],
+        "checkpoint": ["self"],
+        "restore": ["self", "number"],
+        "decide": ["self", "claim"],
+        "record": ["self", "claim"],
+        "recorded": ["self", "number"],
+        "standing": ["self", "number"],
     },
 }
 

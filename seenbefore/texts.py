@@ -36,7 +36,7 @@ def parse_watcher(text):
     """Return the watcher that is written in these lines, or raise ParseError with the index of the first wrong line."""
     lines = text.split("\n")
     ends = len(lines) - 1
-    if ends == 0 or lines[0] not in FIRST_LINES:
+    if lines[0] not in FIRST_LINES:
         raise ParseError(0)
     watcher = Watcher(FIRST_LINES[lines[0]])
     for index in range(1, ends):
@@ -103,6 +103,6 @@ def is_written_value(text):
     """Return whether a text is an integer of at most 60 digits, without leading zeros and "-0"."""
     digits = text[1:] if text.startswith("-") else text
     # Only these are told by int, which also reads signs, spaces and other digits, and no number of any length.
-    if len(digits) == 0 or len(digits) > MOST_DIGITS or not digits.isascii() or not digits.isdigit():
+    if len(digits) > MOST_DIGITS or not digits.isascii() or not digits.isdigit():
         return False
     return digits[0] != "0" or text == "0"

@@ -272,3 +272,23 @@ def ring(many):
         watcher.add_rule(many, 1, place, many + 1, ((place + 1) % many,))
     watcher.add_rule(many + 1, 1, 0, many + 2, ())
     return watcher
+
+
+def ladder(words):
+    """Word 0 takes in three new values: states 3 and 4 may hold these, state 5 is to tell."""
+    return built(words, [(0, 1), (0, 2), (0, 3), (0, 3), (1, 0)], [
+        (0, 0, "new", 1, ("value",)), (1, 0, "new", 2, (0, "value")), (2, 0, "new", 3, (0, 1, "value"))])
+
+
+def in_two_orders(order):
+    """A ladder whose state 4 is state 3 with its places in this order; from state 2 word 1 leads there.
+
+    Word 0 tells the first place, word 1 the second one, and it brings the third one to the first place.
+    """
+    watcher = ladder(2)
+    watcher.add_rule(2, 1, "new", 4, tuple((0, 1, "value")[place] for place in order))
+    for state, places in ((3, (0, 1, 2)), (4, order)):
+        watcher.add_rule(state, 0, places.index(0), 5, ())
+        watcher.add_rule(state, 1, places.index(1), 5, ())
+        watcher.add_rule(state, 1, places.index(2), state, tuple(places.index((2, 0, 1)[place]) for place in places))
+    return watcher

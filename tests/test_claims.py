@@ -2,9 +2,11 @@ import copy
 import inspect
 import random
 import unittest
+from itertools import permutations
 
 from samples import (
-    DEEP, STRANGE, alike_pairs, built, changed, kinds, look, once, some_pairs, some_stream, turning, wide,
+    DEEP, STRANGE, alike_pairs, built, changed, in_two_orders, kinds, ladder, look, once, some_pairs, some_stream,
+    turning, wide,
 )
 from seenbefore.claims import decide, require_claim
 from seenbefore.errors import InvalidClaim, Unpaired
@@ -466,12 +468,6 @@ def counter(verdicts):
     return watcher
 
 
-def ladder(words):
-    """Word 0 takes in three new values: states 3 and 4 may hold these, state 5 is to tell."""
-    return built(words, [(0, 1), (0, 2), (0, 3), (0, 3), (1, 0)], [
-        (0, 0, "new", 1, ("value",)), (1, 0, "new", 2, (0, "value")), (2, 0, "new", 3, (0, 1, "value"))])
-
-
 def three_places(tellers):
     """Word 1 brings the values of states 3 and 4 into other orders, word 2 tells these (state, place)."""
     watcher = ladder(3)
@@ -591,17 +587,11 @@ class DecideLeastTest(DecideCase):
                 self.assertEqual(tuple(map(len, decide((one, one), ("least", "B"))[2])), (6, 9, 7))
 
     def test_each_way_to_pair_three_places(self):
-        # The second state is the first one with its places in another order: just this way to pair them is alike.
-        for order in ((0, 1, 2), (0, 2, 1), (1, 0, 2), (1, 2, 0), (2, 0, 1), (2, 1, 0)):
-            one = ladder(2)
-            one.add_rule(2, 1, "new", 4, tuple((0, 1, "value")[place] for place in order))
-            for state, at in ((3, (0, 1, 2)), (4, order)):
-                one.add_rule(state, 0, at.index(0), 5, ())
-                one.add_rule(state, 1, at.index(1), 5, ())
-            # The third place, too: it goes to the first one, which word 0 tells.
-            one.add_rule(3, 1, 2, 3, (2, 0, 1))
-            one.add_rule(4, 1, order.index(2), 4, tuple(order.index((2, 0, 1)[place]) for place in order))
-            self.assert_not_least((one, one), "A", ("alike", 3, 4, tuple(enumerate(order.index(i) for i in range(3)))))
+        # Just one way to pair the places of both states makes them alike.
+        for order in permutations(range(3)):
+            one = in_two_orders(order)
+            pairs = tuple(enumerate(order.index(place) for place in range(3)))
+            self.assert_not_least((one, one), "A", ("alike", 3, 4, pairs))
 
     def test_watchers_by_chance(self):
         kinds_of_parts = []

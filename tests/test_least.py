@@ -4,8 +4,8 @@ from collections import Counter
 from itertools import permutations
 
 from samples import (
-    DEEP, STRANGE, alike_pairs, built, even_pairs, kinds, look, once, ring, some_pairs, some_stream, some_watchers,
-    turning, wide,
+    DEEP, STRANGE, alike_pairs, built, even_pairs, in_two_orders, kinds, look, once, ring, some_pairs, some_stream,
+    some_watchers, turning, wide,
 )
 from seenbefore.claims import decide
 from seenbefore.errors import UnknownState
@@ -257,6 +257,15 @@ class LeastTest(LeastCase):
         self.assert_least(one, built(2, [(0, 1), (0, 2), (1, 0)], [
             (0, 0, "new", 1, ("value",)), (1, 0, "new", 2, (0, "value")), (1, 1, "new", 2, (0, "value")),
             (2, 0, 1, 3, ()), (2, 1, 0, 3, ())]))
+
+    def test_alike_states_with_three_places_in_any_order(self):
+        for order in permutations(range(3)):
+            found = self.assert_least(in_two_orders(order))
+            self.assertEqual(found.held_counts(), (0, 1, 2, 3, 0))
+            for word in (0, 1):
+                self.assertEqual(found.rules()[(2, word, "new")], (3, (0, 1, "value")))
+            self.assertEqual(found.rules()[(3, 1, 2)], (3, (2, 0, 1)))
+            self.assertEqual(look(found), look(least(in_two_orders((0, 1, 2)))))
 
     def test_a_rule_between_alike_states_is_not_written(self):
         one = built(1, [(1, 0), (1, 0), (1, 0)], [

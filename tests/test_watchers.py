@@ -164,6 +164,10 @@ class TwinTest(unittest.TestCase):
         for other in (Watcher(1), Watcher(3), wide(), other_held, None, 0, "new", (1, 2)):
             self.assertNotEqual(once(), other)
         self.assertNotEqual(Watcher(1), Watcher(2))
+        one, two = Watcher(1), Watcher(1)
+        one.add_state(0, 1)
+        two.add_state(0, 2)
+        self.assertNotEqual(one, two)
 
     def test_equal_watchers_with_rules_put_in_in_another_order(self):
         one, two = wide(), wide()

@@ -49,16 +49,19 @@ def parse_watcher(text):
 
 def read_line(watcher, index, line):
     """Add what the line tells to the watcher of the lines before it, and return whether the line fits them."""
-    words = line.split(" ")
-    parts = [DIGITS.get(word, word) for word in words]
     try:
-        if index == 1:
-            return read_start(watcher, parts)
-        if words[0] == "state":
-            return read_state(watcher, parts)
-        return read_rule(watcher, parts)
+        return read_parts(watcher, index, [DIGITS.get(part, part) for part in line.split(" ")])
     except (UnknownState, NotAVerdict, LimitExceeded, NotAWord, InvalidTest, InvalidSources, RuleExists):
         return False
+
+
+def read_parts(watcher, index, parts):
+    """Add what the parts of a line tell, and return whether they are those of a line that may stand there."""
+    if index == 1:
+        return read_start(watcher, parts)
+    if parts[0] == "state":
+        return read_state(watcher, parts)
+    return read_rule(watcher, parts)
 
 
 def read_start(watcher, parts):

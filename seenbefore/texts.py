@@ -84,9 +84,9 @@ def read_rule(watcher, parts):
     """Add a rule, and return whether the parts are those of a rule behind all rules before it."""
     if len(parts) < 5 or parts[0] != "rule":
         return False
-    rule = tuple(parts[1:4])
-    watcher.add_rule(*rule, parts[4], tuple(parts[5:]))
-    return list(watcher.rules())[-1] == rule
+    _, state, word, test, target, *sources = parts
+    watcher.add_rule(state, word, test, target, tuple(sources))
+    return list(watcher.rules())[-1] == (state, word, test)
 
 
 def parse_stream(text, words):
